@@ -1,0 +1,1 @@
+"""Kinnames: names made like told names."""

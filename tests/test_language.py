@@ -1,0 +1,151 @@
+"""The form of the package's own files, as far as a plain look at them can tell: the rules L1 to L28."""
+
+import ast
+import builtins
+import pathlib
+import re
+import unittest
+
+PACKAGE = pathlib.Path(__file__).resolve().parent.parent / "kinnames"
+
+OWN_NAMES = set(
+    "len range enumerate zip min max sum abs sorted reversed int str bool list tuple dict set frozenset isinstance "
+    "ord repr any all divmod Exception ValueError TypeError KeyError IndexError LookupError ZeroDivisionError "
+    "ArithmeticError OverflowError RuntimeError NotImplementedError AttributeError StopIteration".split()
+)
+
+OWN_METHODS = set(
+    "append clear copy count endswith extend find get index insert isalnum isalpha isdigit islower isspace isupper "
+    "items join keys ljust lower lstrip partition pop remove replace reverse rfind rjust rpartition rsplit rstrip "
+    "setdefault split splitlines startswith strip update upper values zfill bit_length".split()
+)
+
+LEFT_OUT_WORDS = re.compile(
+    r"\b(type|typing|typing_extensions|enum|Enum|IntEnum|StrEnum|Flag|IntFlag|Generic|Protocol|ABC|ABCMeta|namedtuple"
+    r"|NamedTuple|TypedDict|TYPE_CHECKING|abstractmethod)\b|dataclass|overload|contextmanager"
+)
+
+LEFT_OUT_FORMS = (
+    ast.With, ast.Match, ast.Delete, ast.Global, ast.Nonlocal, ast.Assert, ast.Yield, ast.YieldFrom, ast.Await,
+    ast.AsyncFunctionDef, ast.AsyncFor, ast.AsyncWith, ast.Import, ast.AnnAssign, ast.SetComp, ast.DictComp,
+    ast.GeneratorExp, ast.NamedExpr, ast.Starred, ast.Div, ast.Set,
+)
+
+WALKED_AT_ONCE = {"zip", "enumerate", "reversed", "range", "items", "keys", "values"}
+
+
+def files():
+    return sorted(path for path in PACKAGE.rglob("*") if path.is_file() and "__pycache__" not in path.parts)
+
+
+def nodes(kind):
+    for path in files():
+        for node in ast.walk(ast.parse(path.read_text(encoding="utf-8"))):
+            if isinstance(node, kind):
+                yield path.name, node
+
+
+def bound_names(tree):
+    for node in ast.walk(tree):
+        if isinstance(node, ast.Name) and not isinstance(node.ctx, ast.Load):
+            yield node.id
+        elif isinstance(node, ast.arg):
+            yield node.arg
+        elif isinstance(node, (ast.FunctionDef, ast.ClassDef)):
+            yield node.name
+
+
+class Files(unittest.TestCase):
+    def test_plain_files_alone(self):
+        self.assertTrue(files())
+        for path in files():
+            self.assertRegex(path.name, r"\A([a-z][a-z0-9_]*|__init__|__main__)\.py\Z")
+
+    def test_signs_and_sizes(self):
+        for path in files():
+            text = path.read_text(encoding="utf-8")
+            self.assertRegex(text, r"\A[ -~\n]*\Z", path.name)
+            rows = text.split("\n")
+            self.assertLessEqual(len(rows), 401, path.name)
+            self.assertLessEqual(max(len(row) for row in rows), 120, path.name)
+        for name, node in nodes(ast.FunctionDef):
+            self.assertLessEqual(node.end_lineno - node.lineno + 1, 40, (name, node.name))
+
+    def test_no_word_that_is_left_out(self):
+        for path in files():
+            self.assertIsNone(LEFT_OUT_WORDS.search(path.read_text(encoding="utf-8")), path.name)
+
+
+class Forms(unittest.TestCase):
+    def test_no_form_that_is_left_out(self):
+        for name, node in nodes(LEFT_OUT_FORMS):
+            self.fail(f"{name}, row {node.lineno}: {type(node).__name__}")
+
+    def test_one_target_and_no_decorator(self):
+        for name, node in nodes(ast.Assign):
+            self.assertEqual(len(node.targets), 1, (name, node.lineno))
+        for name, node in nodes((ast.FunctionDef, ast.ClassDef)):
+            self.assertEqual(node.decorator_list, [], (name, node.lineno))
+        for name, node in nodes((ast.For, ast.While)):
+            self.assertEqual(node.orelse, [], (name, node.lineno))
+
+    def test_plain_values(self):
+        for name, node in nodes(ast.Constant):
+            self.assertIn(type(node.value), (int, str, bool, type(None)), (name, node.lineno))
+            self.assertNotIn("%", str(node.value), (name, node.lineno))
+
+    def test_is_beside_none_and_truths_alone(self):
+        for name, node in nodes(ast.Compare):
+            for sign, right in zip(node.ops, node.comparators):
+                if isinstance(sign, (ast.Is, ast.IsNot)):
+                    self.assertIsInstance(right, ast.Constant, (name, node.lineno))
+
+    def test_imports_from_the_very_file_that_defines_the_name(self):
+        for name, node in nodes(ast.ImportFrom):
+            self.assertEqual(node.level, 0, (name, node.lineno))
+            self.assertRegex(node.module, r"\Akinnames\.[a-z_]+\Z")
+            source = (PACKAGE / (node.module.split(".")[1] + ".py")).read_text(encoding="utf-8")
+            for alias in node.names:
+                self.assertIn(alias.name, set(bound_names(ast.parse(source))), (name, node.lineno))
+
+
+class NamesInUse(unittest.TestCase):
+    def test_names_of_pythons_own(self):
+        for name, node in nodes(ast.Name):
+            if hasattr(builtins, node.id):
+                self.assertIn(node.id, OWN_NAMES, (name, node.lineno))
+
+    def test_plain_names(self):
+        for path in files():
+            for bound in bound_names(ast.parse(path.read_text(encoding="utf-8"))):
+                self.assertRegex(bound, r"\A([A-Za-z][A-Za-z0-9_]*|__(init|eq|repr|str|len)__)\Z", path.name)
+
+    def test_no_local_is_called_like_an_import_or_what_stands_at_the_top(self):
+        for path in files():
+            tree = ast.parse(path.read_text(encoding="utf-8"))
+            top = {node.name for node in tree.body if isinstance(node, (ast.FunctionDef, ast.ClassDef))}
+            for node in tree.body:
+                if isinstance(node, ast.ImportFrom):
+                    top.update(alias.asname or alias.name for alias in node.names)
+            for node in ast.walk(tree):
+                local = node.arg if isinstance(node, ast.arg) else None
+                if isinstance(node, ast.Name) and isinstance(node.ctx, ast.Store):
+                    local = node.id
+                self.assertNotIn(local, top, path.name)
+                self.assertFalse(local is not None and hasattr(builtins, local), (path.name, local))
+
+    def test_methods_of_pythons_own_values(self):
+        own = {part.name for name, node in nodes(ast.ClassDef) for part in node.body if hasattr(part, "name")}
+        for name, node in nodes(ast.Call):
+            if isinstance(node.func, ast.Attribute):
+                self.assertIn(node.func.attr, OWN_METHODS | own, (name, node.lineno))
+
+    def test_what_is_walked_at_once_is_not_kept(self):
+        for name, node in nodes(ast.Assign):
+            called = node.value.func if isinstance(node.value, ast.Call) else None
+            word = getattr(called, "id", getattr(called, "attr", None))
+            self.assertNotIn(word, WALKED_AT_ONCE, (name, node.lineno))
+
+
+if __name__ == "__main__":
+    unittest.main()

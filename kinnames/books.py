@@ -1,6 +1,6 @@
 """Names, books and orders, and what stands behind which end in a book."""
 
-from kinnames.errors import NoBook, NoName, NoOrder
+from kinnames.errors import NoBook, NoName, NoNumber, NoOrder
 
 LETTERS = "abcdefghijklmnopqrstuvwxyz"
 MOST_LETTERS = 8
@@ -20,11 +20,15 @@ def is_book(thing):
     return all([is_name(name) for name in thing])
 
 
-def is_order(thing):
+def is_whole(thing, least, most):
     # Python counts True as the int 1, but a truth is no whole number here.
     if not isinstance(thing, int) or isinstance(thing, bool):
         return False
-    return 1 <= thing <= MOST_ORDER
+    return least <= thing <= most
+
+
+def is_order(thing):
+    return is_whole(thing, 1, MOST_ORDER)
 
 
 def need_book(thing):
@@ -35,6 +39,11 @@ def need_book(thing):
 def need_order(thing):
     if not is_order(thing):
         raise NoOrder("an order is a whole number from 1 to 3")
+
+
+def need_whole(thing, least, most):
+    if not is_whole(thing, least, most):
+        raise NoNumber(f"a whole number from {least} to {most} is asked for")
 
 
 def need_name(thing):

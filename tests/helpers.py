@@ -1,6 +1,7 @@
 """What several test files need: sample books, things of every kind, and slow second ways to the same answers."""
 
 import copy
+import functools
 import itertools
 from fractions import Fraction
 
@@ -24,6 +25,22 @@ LARGER_BOOKS = (
 )
 
 BOOKS = SMALL_BOOKS + LARGER_BOOKS
+
+# Each pair of its seven letters stands in it: by order 1 it makes some five million names.
+WIDE_BOOK = ("aabbacbc", "ccadbdcd", "ddaebece", "edeeafbf", "fcfdfeff", "fagbgcgd", "dgegfgga", "gggggggg")
+
+# Five heads, one middle, five tails: by order 1 it makes 25 names of like shares.
+EVEN_BOOK = ("axu", "bxv", "cxw", "dxy", "exz")
+
+# Books whose ways go round, by some order at least, and such whose ways do not by any.
+ROUND_BOOKS = (
+    ("aa",), ("aaaaaaaa",), ("abab",), ("aab", "b"), ("abba", "baab"), ("bbbb", "abbb", "a"), ("abaab", "ba", "ba"),
+) + LARGER_BOOKS[:3] + LARGER_BOOKS[4:]
+STRAIGHT_BOOKS = (
+    ("a",), ("b", "a"), ("ab", "a", "ab"), ("abcdefgh",), ("abcdefgh", "h"), ("abd", "acd", "bc"), EVEN_BOOK,
+    ("kim", "kit", "tam", "lut"), ("h", "g", "f", "e", "d", "c", "b", "a"), ("ax", "bx", "bx", "ay"),
+)
+MANY_BOOKS = ROUND_BOOKS + STRAIGHT_BOOKS
 
 
 def ten_deep(thing, kind):
@@ -49,6 +66,50 @@ NO_BOOKS = STRANGE_THINGS + (1, 2, 3, "", "anna", "a", "abcdefgh")
 NO_ORDERS = STRANGE_THINGS + ("", "anna", "1", "2", "3", ("anna",), ["anna"], [1], (1,), "12345678")
 NO_NAMES = STRANGE_THINGS + (1, 2, 3, "", ("anna",), ("a",), ["a"])
 NO_TEXTS = tuple(thing for thing in NO_NAMES if thing != "")
+
+ALL_WANTED = (1, 8, "", "", (), True)
+NONE_TOLD = (1, 8, "", "", (), False)
+SIX_NAMES = ("ann", "anna", "b", "ba", "c", "d")
+
+NO_EDGES = (
+    "abcd", "A", "aB", "1", " ", "a ", " a", "a\n", "\n", "-", "`", "{", "\u00e4", "\u0430", "\uff41", "a\x00",
+    None, 0, 1, True, False, ["a"], ("a",), [], (), ["a", "b"], "abcdefghi",
+)
+
+# What is none in each of the six parts of a wish, whatever the other parts are.
+SPOILT_PARTS = (
+    (0, 9, -1, True, False, None, "1", "", "a", [1], (1,), (), [], 10 ** 30),
+    (0, 9, -1, True, False, None, "8", "", "a", [8], (8,), (), [], 10 ** 30),
+    NO_EDGES,
+    NO_EDGES,
+    (None, 0, 1, True, False, "", "a", "anna", [], ["a"], ["a", "b"], ("b", "a"), ("a", "a"), ("a", "b", "b"),
+     ("a", "c", "b"), ("b", "a", "c"), ("",), ("", "a"), ("A",), ("a", "A"), ("abcdefghi",), (1,), (1, 2), (True,),
+     (None,), ("a", 1), (1, "a"), ("a", None), (("a",),), (["a"],), ("a", ("b",)), ("a", ["b"]), ("an na",),
+     ("a", "b", "c", "d", "e", "f", "g"), ten_deep("a", tuple)),
+    (None, 0, 1, 2, -1, "", "True", "a", [], (), [True], (True,), [False], (False,)),
+)
+
+
+def with_part(wish, place, thing):
+    return wish[:place] + (thing,) + wish[place + 1:]
+
+
+SPOILT_WISHES = tuple(
+    with_part(wish, place, thing)
+    for wish in (ALL_WANTED, NONE_TOLD, (3, 5, "an", "na", ("anna",), False))
+    for place, things in enumerate(SPOILT_PARTS) for thing in things
+) + (
+    (3, 2, "", "", (), True), (8, 7, "", "", (), True), (8, 1, "", "", (), True),
+    ALL_WANTED[:5], ALL_WANTED[1:], ALL_WANTED + (True,), ALL_WANTED + ((),), ALL_WANTED * 2, ALL_WANTED[:1],
+    list(ALL_WANTED), (ALL_WANTED,), [ALL_WANTED], (None,) * 6, (1,) * 6, ("",) * 6, ((),) * 6, (True,) * 6, [1] * 6,
+    "abcdef", ("a", "b", "c", "d", "e", "f"), ten_deep(ALL_WANTED, tuple), ten_deep(ALL_WANTED, list),
+)
+NO_WISHES = STRANGE_THINGS + SPOILT_WISHES + (1, 2, 3, "", "anna", ("anna",), ("anna", "ann"))
+NO_WHOLE_NUMBERS = tuple(thing for thing in STRANGE_THINGS if thing not in (4, 5)) + (
+    True, False, None, "1", "8", "20", "", "anna", [1], (1,), [8], (8,), [True], (True,), ALL_WANTED,
+)
+NO_LENGTHS = NO_WHOLE_NUMBERS + (0, 9, -1, -8, 10, 20, 99)
+NO_MANIES = NO_WHOLE_NUMBERS + (0, 21, -1, -20, 22, 99)
 
 
 def refusal(function, *things):
@@ -95,6 +156,53 @@ def slow_share(book, order, name):
             return Fraction(0)
         product *= Fraction(row.get(name[place:place + 1], 0), sum(row.values()))
     return product
+
+
+@functools.lru_cache(maxsize=None)
+def slow_made(book, order):
+    """All names that are made, with their shares, found by going on from each text with each letter behind its end."""
+    found = {}
+    begun = [("", Fraction(1))]
+    while begun:
+        text, weight = begun.pop()
+        row = slow_row(book, order, text[max(0, len(text) - order):])
+        for letter, often in row:
+            part = weight * Fraction(often, sum(count for other, count in row))
+            if letter == "":
+                found[text] = part
+            elif len(text) < 8:
+                begun.append((text + letter, part))
+    return found
+
+
+def slow_fits(book, wish, name):
+    least, most, head, tail, barred, told = wish
+    return (
+        len(name) in range(least, most + 1) and name[:len(head)] == head and name[len(name) - len(tail):] == tail
+        and len(name) >= len(tail) and name not in barred and (told or name not in book)
+    )
+
+
+def slow_wanted(book, order, wish):
+    """All names that are made and as wanted, as tuples (share, name), the likeliest ones first."""
+    pairs = [(part, name) for name, part in slow_made(book, order).items() if slow_fits(book, wish, name)]
+    return sorted(pairs, key=lambda pair: (-pair[0], pair[1]))
+
+
+def sample_wishes(book):
+    """Wishes that cut a book's names at many places, with some that no name is as wanted by."""
+    first, last = book[0], book[-1]
+    barred = tuple(sorted(set(book))[:6])
+    wishes = [
+        (1, 8, "", "", barred, True), (1, 8, "", "", barred, False), (1, 8, "", "", ("x", "y", "zz"), True),
+        (1, 8, first[:1], "", (), True), (1, 8, "", last[-1:], (), True), (1, 8, first[:2], last[-2:], (), True),
+        (1, 8, first[:3], last[-3:], (), False), (1, 8, first[:3], first[-3:], (), True), (2, 5, "a", "a", (), True),
+        (1, 4, first[-2:], first[:2], (), True), (1, 8, "ab", "ba", ("ab", "aba"), True), (1, 8, "q", "", (), True),
+        (1, 8, "", "qq", (), True), (1, 2, "aaa", "", (), True), (1, 2, "", "aaa", (), True),
+        (3, 3, "ab", "bb", (), True), (3, 6, "", "n", (), False), (len(first), len(first), "", "", (first,), True),
+    ]
+    wishes.extend((length, length, "", "", (), told) for length in range(1, 9) for told in (True, False))
+    return [ALL_WANTED, NONE_TOLD] + wishes
 
 
 def as_tuple(fraction):

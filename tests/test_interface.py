@@ -9,6 +9,10 @@ FUNCTIONS = {
     "kinnames.shares": {
         "added": 2, "times": 2, "less": 2, "is_less": 2, "steps": 3, "share": 3, "makes": 3, "likelier": 4,
     },
+    "kinnames.lengths": {"how_many": 3, "share_of_length": 3, "share_up_to": 3, "all_made": 3, "lengths": 2},
+    "kinnames.wishes": {"is_wish": 1, "fits": 3},
+    "kinnames.likely": {"likeliest": 4, "place_of": 4},
+    "kinnames.holding": {"share_fitting": 3, "can_fit": 3},
 }
 
 

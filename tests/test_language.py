@@ -32,6 +32,7 @@ LEFT_OUT_FORMS = (
 )
 
 WALKED_AT_ONCE = {"zip", "enumerate", "reversed", "range", "items", "keys", "values"}
+WALKERS = {"list", "tuple", "dict", "sorted", "sum", "any", "all", "enumerate", "zip", "min", "max"}
 
 
 def files():
@@ -43,6 +44,10 @@ def nodes(kind):
         for node in ast.walk(ast.parse(path.read_text(encoding="utf-8"))):
             if isinstance(node, kind):
                 yield path.name, node
+
+
+def called_word(node):
+    return getattr(node.func, "id", getattr(node.func, "attr", None))
 
 
 def bound_names(tree):
@@ -94,6 +99,12 @@ class Forms(unittest.TestCase):
             self.assertIn(type(node.value), (int, str, bool, type(None)), (name, node.lineno))
             self.assertNotIn("%", str(node.value), (name, node.lineno))
 
+    def test_written_exponents_alone(self):
+        for name, node in nodes(ast.BinOp):
+            if isinstance(node.op, ast.Pow):
+                self.assertIsInstance(node.right, ast.Constant, (name, node.lineno))
+                self.assertIn(node.right.value, range(65), (name, node.lineno))
+
     def test_is_beside_none_and_truths_alone(self):
         for name, node in nodes(ast.Compare):
             for sign, right in zip(node.ops, node.comparators):
@@ -140,11 +151,42 @@ class NamesInUse(unittest.TestCase):
             if isinstance(node.func, ast.Attribute):
                 self.assertIn(node.func.attr, OWN_METHODS | own, (name, node.lineno))
 
+    def test_what_is_walked_at_once_stands_where_it_is_walked(self):
+        for path in files():
+            tree = ast.parse(path.read_text(encoding="utf-8"))
+            walked = [node.iter for node in ast.walk(tree) if isinstance(node, (ast.For, ast.comprehension))]
+            for node in ast.walk(tree):
+                if isinstance(node, ast.Call) and getattr(node.func, "id", None) in WALKERS:
+                    walked.extend(node.args if node.func.id == "zip" else node.args[:1])
+            for node in ast.walk(tree):
+                if isinstance(node, ast.Call) and called_word(node) in WALKED_AT_ONCE:
+                    self.assertIn(node, walked, (path.name, node.lineno))
+
+    def test_a_set_stands_on_the_spot_alone(self):
+        for path in files():
+            tree = ast.parse(path.read_text(encoding="utf-8"))
+            spots = [part for node in ast.walk(tree) if isinstance(node, ast.Compare) for part in ast.walk(node)]
+            for node in ast.walk(tree):
+                if isinstance(node, ast.Call) and getattr(node.func, "id", None) in ("sorted", "len"):
+                    spots.extend(part for argument in node.args for part in ast.walk(argument))
+            for node in ast.walk(tree):
+                if isinstance(node, ast.Call) and getattr(node.func, "id", None) in ("set", "frozenset"):
+                    self.assertIn(node, spots, (path.name, node.lineno))
+
+    def test_no_two_files_draw_from_one_another(self):
+        drawn = {}
+        for name, node in nodes(ast.ImportFrom):
+            drawn.setdefault(name, set()).add(node.module.split(".")[1] + ".py")
+        for start in drawn:
+            reached = sorted(drawn[start])
+            for name in reached:
+                reached.extend(other for other in sorted(drawn.get(name, ())) if other not in reached)
+            self.assertNotIn(start, reached)
+
     def test_what_is_walked_at_once_is_not_kept(self):
         for name, node in nodes(ast.Assign):
-            called = node.value.func if isinstance(node.value, ast.Call) else None
-            word = getattr(called, "id", getattr(called, "attr", None))
-            self.assertNotIn(word, WALKED_AT_ONCE, (name, node.lineno))
+            if isinstance(node.value, ast.Call):
+                self.assertNotIn(called_word(node.value), WALKED_AT_ONCE, (name, node.lineno))
 
 
 if __name__ == "__main__":

@@ -31,9 +31,20 @@ def is_order(thing):
     return is_whole(thing, 1, MOST_ORDER)
 
 
+def is_rising(things):
+    return all([one < other for one, other in zip(things, things[1:])])
+
+
 def need_book(thing):
     if not is_book(thing):
         raise NoBook("a book is a tuple of 1 to 8 names")
+
+
+def need_books(thing):
+    if not isinstance(thing, list):
+        raise NoBook("a list of books is asked for")
+    for book in thing:
+        need_book(book)
 
 
 def need_order(thing):

@@ -35,6 +35,17 @@ def is_less(one, other):
     return one[0] * other[1] < other[0] * one[1]
 
 
+# The first of the greatest ones; none, where all are nought.
+def place_of_greatest(fractions):
+    found = None
+    greatest = NOUGHT
+    for place, fraction in enumerate(fractions):
+        if is_less(greatest, fraction):
+            found = place
+            greatest = fraction
+    return found
+
+
 def part_in(row, letter):
     if letter not in row:
         return NOUGHT

@@ -1,6 +1,6 @@
 """Wishes: which names are wanted, by length, beginning, end, barred and told ones."""
 
-from kinnames.books import MOST_LETTERS, is_name, is_whole, need_book, need_name
+from kinnames.books import MOST_LETTERS, is_name, is_rising, is_whole, need_book, need_name
 from kinnames.errors import NoWish
 from kinnames.ways import ANY
 
@@ -22,10 +22,8 @@ def is_edge(thing):
 def is_barred(thing):
     if not isinstance(thing, tuple) or len(thing) > MOST_BARRED:
         return False
-    # Only texts can be held against one another, so this is asked first.
-    if not all([is_name(name) for name in thing]):
-        return False
-    return all([one < other for one, other in zip(thing, thing[1:])])
+    # Only texts can be held against one another, so that they are asked for first.
+    return all([is_name(name) for name in thing]) and is_rising(thing)
 
 
 def is_wish(thing):

@@ -111,6 +111,24 @@ NO_WHOLE_NUMBERS = tuple(thing for thing in STRANGE_THINGS if thing not in (4, 5
 NO_LENGTHS = NO_WHOLE_NUMBERS + (0, 9, -1, -8, 10, 20, 99)
 NO_MANIES = NO_WHOLE_NUMBERS + (0, 21, -1, -20, 22, 99)
 
+# What is not to be drawn by: no list or tuple, too long, or with something else in it than it takes.
+NO_DRAWING = (
+    None, 0, 1, -1, 10 ** 30, True, False, "", "0", "0123", "anna",
+    [True], [False], (True,), (False,), [0, True], [False, 1], (0, 0, True), [None], (None,), [0, None], ["0"], [""],
+    [0, "1"], ("anna",), ["anna", "ann"], [[]], [()], ([],), ((),), [[0]], [(0,)], ((0,),), ([0],), [0, [1]],
+    [-1], (-1,), [0, -1], [-(10 ** 30)], [10000], (10000,), [0, 10000], [10 ** 30], [0] * 98 + [10000],
+    [0] * 98 + [True], [0] * 98 + [-1], (0,) * 98 + (None,), [0] * 100, (0,) * 100, [9999] * 100, [0] * 500,
+    ten_deep(0, list), ten_deep(0, tuple), ALL_WANTED, ("a", 1),
+)
+
+# What is no list of books: no list at all, or one with something else in it.
+NO_BOOKSHELVES = (
+    None, 0, 1, True, False, "", "anna", (), ("anna",), ("anna", "ann"), (("anna",),), (("anna",), ("ann",)), ((),),
+    ["anna"], ["anna", "ann"], [("anna",), "ann"], [["anna"]], [("anna",), ["ann"]], [[("anna",)]], [()],
+    [("anna",), ()], [("anna",), None], [None], [True], [1], [("anna",), 1], [("",)], [("anna", "")], [("Anna",)], [("anna", 1)],
+    [("a",) * 9], [("a",), ("abcdefghi",)], ten_deep(("anna",), list)[0], ten_deep(("anna",), tuple), [ALL_WANTED],
+)
+
 
 def refusal(function, *things):
     """The very class of what function raises, None where it answers; asks that the things stay as they were."""
@@ -203,6 +221,26 @@ def sample_wishes(book):
     ]
     wishes.extend((length, length, "", "", (), told) for length in range(1, 9) for told in (True, False))
     return [ALL_WANTED, NONE_TOLD] + wishes
+
+
+def slow_drawn(book, order, numbers):
+    """The text drawn and how many numbers it took, by taking away and counting on; None, where there is no end."""
+    rows = dict(slow_table(book, order))
+    text = ""
+    for taken, number in enumerate(numbers, start=1):
+        row = rows[text[max(0, len(text) - order):]]
+        anything = sum(often for letter, often in row)
+        while number >= anything:
+            number -= anything
+        counted = 0
+        for letter, often in row:
+            counted += often
+            if number < counted:
+                break
+        if letter == "":
+            return (text, taken)
+        text += letter
+    return None
 
 
 def as_tuple(fraction):

@@ -13,6 +13,16 @@ FUNCTIONS = {
     "kinnames.wishes": {"is_wish": 1, "fits": 3},
     "kinnames.likely": {"likeliest": 4, "place_of": 4},
     "kinnames.holding": {"share_fitting": 3, "can_fit": 3},
+    "kinnames.drawing": {"drawn": 3, "drawn_fitting": 4, "numbers_for": 3},
+    "kinnames.supports": {"makers": 3, "best_maker": 3, "greatest_order": 2, "needed": 3, "shows": 4},
+    "kinnames.texts": {"book_text": 1, "table_text": 2, "read_book": 1},
+}
+
+# Each class with the number of things that it is made of, and its methods with theirs.
+CLASSES = {
+    ("kinnames.keepers", "Keeper", 1): {
+        "book": 0, "given": 0, "hear": 1, "forget": 1, "give": 2, "give_likeliest": 1,
+    },
 }
 
 
@@ -23,6 +33,16 @@ class Interface(unittest.TestCase):
                 with self.subTest(module=module, name=name):
                     function = getattr(importlib.import_module(module), name)
                     self.assertEqual(len(inspect.signature(function).parameters), many)
+
+    def test_each_class_is_there_with_its_methods(self):
+        for (module, name, many), methods in CLASSES.items():
+            kind = getattr(importlib.import_module(module), name)
+            self.assertTrue(inspect.isclass(kind), name)
+            self.assertEqual(len(inspect.signature(kind).parameters), many, name)
+            for method, arguments in methods.items():
+                with self.subTest(name=name, method=method):
+                    parameters = inspect.signature(getattr(kind, method)).parameters
+                    self.assertEqual(len(parameters) - 1, arguments)
 
 
 if __name__ == "__main__":

@@ -120,6 +120,43 @@ class Forms(unittest.TestCase):
                 self.assertIn(alias.name, set(bound_names(ast.parse(source))), (name, node.lineno))
 
 
+class Classes(unittest.TestCase):
+    def methods(self):
+        return {part.name for name, node in nodes(ast.ClassDef) for part in node.body if hasattr(part, "name")}
+
+    def values(self):
+        return {node.attr for name, node in nodes(ast.Attribute) if isinstance(node.ctx, ast.Store)}
+
+    def test_methods_alone_in_a_class_and_none_twice(self):
+        for name, node in nodes(ast.ClassDef):
+            self.assertLessEqual(len(node.bases), 1, (name, node.lineno))
+            parts = [part for part in node.body if not isinstance(part, (ast.Expr, ast.Pass))]
+            self.assertTrue(all(isinstance(part, ast.FunctionDef) for part in parts), (name, node.lineno))
+            self.assertEqual(len({part.name for part in parts}), len(parts), (name, node.lineno))
+
+    def test_no_name_is_a_method_and_a_value(self):
+        self.assertEqual(self.methods() & self.values(), set())
+
+    def test_values_are_not_called_like_those_of_pythons_own(self):
+        kinds = (str, int, list, tuple, dict, set, bytes)
+        taken = {word for kind in kinds for word in dir(kind)} | {"args", "mro"}
+        free = set("count index title find get join lower upper split strip copy add".split())
+        self.assertEqual(self.values() & (taken - free), set())
+        self.assertEqual(self.methods() & (taken - OWN_METHODS - {"add", "discard", "__init__"}), set())
+
+    def test_methods_are_called_where_they_stand(self):
+        called = {id(node.func) for name, node in self.kept(ast.Call)}
+        for name, node in self.kept(ast.Attribute):
+            if node.attr in self.methods() | OWN_METHODS and node.attr not in self.values():
+                self.assertIn(id(node), called, (name, node.lineno))
+
+    def kept(self, kind):
+        """As nodes, but the same ones each time, so that they can be told from one another."""
+        if not hasattr(self, "trees"):
+            self.trees = [(path.name, ast.parse(path.read_text(encoding="utf-8"))) for path in files()]
+        return [(name, node) for name, tree in self.trees for node in ast.walk(tree) if isinstance(node, kind)]
+
+
 class NamesInUse(unittest.TestCase):
     def test_names_of_pythons_own(self):
         for name, node in nodes(ast.Name):
@@ -172,6 +209,18 @@ class NamesInUse(unittest.TestCase):
             for node in ast.walk(tree):
                 if isinstance(node, ast.Call) and getattr(node.func, "id", None) in ("set", "frozenset"):
                     self.assertIn(node, spots, (path.name, node.lineno))
+
+    def test_each_name_once_at_the_top(self):
+        for path in files():
+            bound = []
+            for node in ast.parse(path.read_text(encoding="utf-8")).body:
+                if isinstance(node, ast.ImportFrom):
+                    bound.extend(alias.asname or alias.name for alias in node.names)
+                elif isinstance(node, (ast.FunctionDef, ast.ClassDef)):
+                    bound.append(node.name)
+                elif isinstance(node, ast.Assign):
+                    bound.append(node.targets[0].id)
+            self.assertEqual(sorted(set(bound)), sorted(bound), path.name)
 
     def test_no_two_files_draw_from_one_another(self):
         drawn = {}

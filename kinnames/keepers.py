@@ -3,7 +3,7 @@
 from kinnames.books import counted_rows, need_book, need_name, need_order
 from kinnames.drawing import first_drawn, need_numbers
 from kinnames.errors import Nothing
-from kinnames.likely import heaviest_fitting
+from kinnames.likely import heaviest_name
 from kinnames.wishes import left_out, need_wish
 
 
@@ -47,9 +47,7 @@ class Keeper:
         need_book(self.told)
         need_wish(wish)
         barred = left_out(self.told, wish) + self.gone
-        rows = counted_rows(self.told, self.order)
-        names = [pair[1] for pair in heaviest_fitting(rows, self.order, wish, 1, barred)]
-        if names == []:
-            return None
-        self.gone.append(names[0])
-        return names[0]
+        name = heaviest_name(counted_rows(self.told, self.order), self.order, wish, barred)
+        if name is not None:
+            self.gone.append(name)
+        return name

@@ -19,6 +19,11 @@ def heaviest_fitting(rows, order, wish, many, barred):
     return [(lowest(weight, whole), name) for weight, name in heaviest(found, many)]
 
 
+def heaviest_name(rows, order, wish, barred):
+    pairs = heaviest_fitting(rows, order, wish, 1, barred)
+    return None if pairs == [] else pairs[0][1]
+
+
 def likeliest(book, order, wish, many):
     need_book(book)
     need_order(order)

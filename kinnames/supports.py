@@ -38,8 +38,12 @@ def places_by_step(book, order, name):
     return [places_with(book, order, step) for step in ends_and_letters(name, order)]
 
 
+def any_has(having, places):
+    return any([place in having for place in places])
+
+
 def alone_make(by_step, places):
-    return all([any([place in having for place in places]) for having in by_step])
+    return all([any_has(having, places) for having in by_step])
 
 
 # Rising lists, put before each of their greater places, stay in their order.

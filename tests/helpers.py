@@ -125,7 +125,8 @@ NO_DRAWING = (
 NO_BOOKSHELVES = (
     None, 0, 1, True, False, "", "anna", (), ("anna",), ("anna", "ann"), (("anna",),), (("anna",), ("ann",)), ((),),
     ["anna"], ["anna", "ann"], [("anna",), "ann"], [["anna"]], [("anna",), ["ann"]], [[("anna",)]], [()],
-    [("anna",), ()], [("anna",), None], [None], [True], [1], [("anna",), 1], [("",)], [("anna", "")], [("Anna",)], [("anna", 1)],
+    [("anna",), ()], [("anna",), None], [None], [True], [1],
+    [("anna",), 1], [("",)], [("anna", "")], [("Anna",)], [("anna", 1)],
     [("a",) * 9], [("a",), ("abcdefghi",)], ten_deep(("anna",), list)[0], ten_deep(("anna",), tuple), [ALL_WANTED],
 )
 
@@ -241,6 +242,38 @@ def slow_drawn(book, order, numbers):
             return (text, taken)
         text += letter
     return None
+
+
+def slow_begun(book, order, text):
+    """All names that are made and begin with the text, with their shares."""
+    return {name: part for name, part in slow_made(book, order).items() if name[:len(text)] == text}
+
+
+class SlowSteps:
+    """All that was there behind each step, in one row, and the place in it by now."""
+
+    def __init__(self, first):
+        self.row = [(first, None)]
+        self.place = 0
+
+    def now(self):
+        return self.row[self.place][0]
+
+    def step(self, after, word):
+        self.row = self.row[:self.place + 1] + [(after, word)]
+        self.place += 1
+        return word
+
+    def back(self):
+        self.place -= 1
+        return self.row[self.place + 1][1]
+
+    def forth(self):
+        self.place += 1
+        return self.row[self.place][1]
+
+    def many(self):
+        return (self.place, len(self.row) - 1 - self.place)
 
 
 def as_tuple(fraction):

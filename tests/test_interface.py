@@ -1,4 +1,4 @@
-"""The names and arguments of the interface, as far as it is built."""
+"""The names and arguments of the interface."""
 
 import importlib
 import inspect
@@ -15,6 +15,8 @@ FUNCTIONS = {
     "kinnames.holding": {"share_fitting": 3, "can_fit": 3},
     "kinnames.drawing": {"drawn": 3, "drawn_fitting": 4, "numbers_for": 3},
     "kinnames.supports": {"makers": 3, "best_maker": 3, "greatest_order": 2, "needed": 3, "shows": 4},
+    "kinnames.together": {"mixed": 2, "shared_ends": 3, "lacking": 3, "best_for": 3, "makes_all": 3},
+    "kinnames.begun": {"next_letters": 3, "how_many_begun": 3, "share_begun": 3, "likeliest_begun": 3},
     "kinnames.texts": {"book_text": 1, "table_text": 2, "read_book": 1},
 }
 
@@ -22,6 +24,14 @@ FUNCTIONS = {
 CLASSES = {
     ("kinnames.keepers", "Keeper", 1): {
         "book": 0, "given": 0, "hear": 1, "forget": 1, "give": 2, "give_likeliest": 1,
+    },
+    ("kinnames.pens", "Pen", 2): {
+        "text": 0, "letters": 0, "may_end": 0, "part": 0, "add": 1, "rub": 0, "finish": 0, "back": 0, "forth": 0,
+        "many": 0, "twin": 0,
+    },
+    ("kinnames.ledgers", "Ledger", 1): {
+        "keep": 2, "drop": 1, "hear": 2, "titles": 0, "book": 1, "tellers": 1, "makers_of": 1, "best_of": 1,
+        "back": 0, "forth": 0, "many": 0, "twin": 0,
     },
 }
 

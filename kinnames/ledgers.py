@@ -24,14 +24,17 @@ class Ledger(Stepper):
     def keep(self, title, book):
         need_name(title)
         need_book(book)
-        return self.step_to(self.with_book(title, book), title in self.now)
+        stood = title in self.now
+        self.step_to(self.with_book(title, book), "keep")
+        return stood
 
     def drop(self, title):
         need_name(title)
         self.need_title(title)
         after = dict(self.now)
-        after.pop(title)
-        return self.step_to(after, self.now[title])
+        dropped = after.pop(title)
+        self.step_to(after, "drop")
+        return dropped
 
     def hear(self, title, name):
         need_name(title)
@@ -39,7 +42,8 @@ class Ledger(Stepper):
         self.need_title(title)
         longer = self.now[title] + (name,)
         need_book(longer)
-        return self.step_to(self.with_book(title, longer), len(longer))
+        self.step_to(self.with_book(title, longer), "hear")
+        return len(longer)
 
     def titles(self):
         return sorted(self.now)

@@ -20,7 +20,6 @@ class Stepper:
         self.done.append((self.now, word))
         self.undone = []
         self.now = after
-        return word
 
     def back(self):
         if self.done == []:
@@ -82,17 +81,20 @@ class Pen(Stepper):
     def add(self, letter):
         if letter not in self.letters():
             raise NoName("no name goes on with this letter")
-        return self.step_to(self.now + letter, None)
+        self.step_to(self.now + letter, "add")
 
     def rub(self):
         if self.now == "":
             raise Nothing("there is no letter to rub out")
-        return self.step_to(self.now[:-1], self.now[-1])
+        letter = self.now[-1]
+        self.step_to(self.now[:-1], "rub")
+        return letter
 
     # A pen writes only what begins a name, so there is always one.
     def finish(self):
         name = heaviest_name(self.rows, self.order, form_begun(self.now), [])
-        return self.step_to(name, name)
+        self.step_to(name, "finish")
+        return name
 
     def twin(self):
         other = Pen(self.told, self.order)

@@ -262,7 +262,6 @@ class SlowSteps:
     def step(self, after, word):
         self.row = self.row[:self.place + 1] + [(after, word)]
         self.place += 1
-        return word
 
     def back(self):
         self.place -= 1

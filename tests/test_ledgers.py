@@ -159,11 +159,12 @@ class BackAndForth(unittest.TestCase):
             lambda: ledger.keep("a", ("a", "a")), lambda: ledger.drop("b"), lambda: ledger.hear("a", "a"),
             lambda: ledger.keep("a", ("a", "a", "a")), lambda: ledger.drop("a"), lambda: ledger.keep("b", ("b",)),
         )
-        words, seen = [], [all_of(ledger)[:3]]
+        words = ["keep", "keep", "hear", "keep", "drop", "hear", "keep", "drop", "keep"]
+        told, seen = [], [all_of(ledger)[:3]]
         for step in steps:
-            words.append(step())
+            told.append(step())
             seen.append(all_of(ledger)[:3])
-        self.assertEqual(words, [False, False, 3, True, ("ab",), 3, True, ("a", "a", "a"), False])
+        self.assertEqual(told, [False, False, 3, True, ("ab",), 3, True, ("a", "a", "a"), False])
         for time in range(2):
             for place in range(len(words) - 1, -1, -1):
                 self.assertEqual(ledger.many(), (place + 1, len(words) - 1 - place))
@@ -178,21 +179,23 @@ class BackAndForth(unittest.TestCase):
             self.assertIs(refusal(ledger.forth), Nothing)
             self.assertEqual(ledger.many(), (len(words), 0))
 
-    def test_words_are_the_very_ones(self):
-        ledger = ledger_of({"a": ANNAS}, 1)
-        ledger.keep("a", ANNAS)
-        self.assertIs(ledger.back(), True)
-        self.assertIs(ledger.back(), False)
-        self.assertIs(ledger.forth(), False)
-        self.assertIs(ledger.forth(), True)
-        ledger.hear("a", "a")
-        self.assertIs(type(ledger.back()), int)
+    def test_the_word_is_not_what_the_step_told(self):
+        ledger = Ledger(1)
+        self.assertIs(ledger.keep("u", ("bb", "ba")), False)
+        self.assertIs(ledger.keep("v", ("aa",)), False)
+        self.assertEqual(ledger.drop("u"), ("bb", "ba"))
+        self.assertEqual(ledger.hear("v", "ab"), 2)
+        for one in (ledger.twin(), ledger):
+            self.assertEqual([one.back() for time in range(4)], ["hear", "drop", "keep", "keep"])
+            self.assertEqual((one.titles(), one.many()), ([], (0, 4)))
+            self.assertEqual([one.forth() for time in range(4)], ["keep", "keep", "drop", "hear"])
+            self.assertEqual((one.titles(), one.book("v"), one.many()), (["v"], ("aa", "ab"), (4, 0)))
 
     def test_a_step_that_changed_nothing(self):
         ledger = ledger_of({"a": ANNAS}, 1)
         ledger.keep("a", ANNAS)
         self.assertEqual(ledger.many(), (2, 0))
-        self.assertIs(ledger.back(), True)
+        self.assertEqual(ledger.back(), "keep")
         self.assertEqual((ledger.titles(), ledger.many()), (["a"], (1, 1)))
 
     def test_nothing_at_first(self):
@@ -223,7 +226,7 @@ class BackAndForth(unittest.TestCase):
         ):
             self.assertIs(refusal(method, *things), wanted)
             self.assertEqual(all_of(ledger), before)
-        self.assertIs(ledger.forth(), False)
+        self.assertEqual(ledger.forth(), "keep")
         self.assertEqual(ledger.titles(), ["a", "b"])
 
 
@@ -236,12 +239,12 @@ class Twins(unittest.TestCase):
         self.assertIsInstance(twin, Ledger)
         self.assertEqual(all_of(twin), all_of(ledger))
         self.assertEqual(twin.many(), (2, 1))
-        self.assertEqual(twin.forth(), 2)
+        self.assertEqual(twin.forth(), "hear")
         self.assertEqual(twin.book("b"), ("ab", "b"))
         self.assertEqual(ledger.book("b"), ("ab",))
-        self.assertEqual([twin.back(), twin.back(), twin.back()], [2, False, False])
+        self.assertEqual([twin.back(), twin.back(), twin.back()], ["hear", "keep", "keep"])
         self.assertEqual(ledger.many(), (2, 1))
-        self.assertEqual(ledger.forth(), 2)
+        self.assertEqual(ledger.forth(), "hear")
 
     def test_each_goes_by_itself(self):
         ledger = ledger_of({"a": ANNAS}, 1)
@@ -259,7 +262,7 @@ class Twins(unittest.TestCase):
         self.assertEqual(ledger.many(), (2, 1))
         self.assertEqual(twin.many(), (2, 1))
         twin.keep("c", ("c",))
-        self.assertEqual(ledger.forth(), ("b",))
+        self.assertEqual(ledger.forth(), "drop")
         self.assertIs(refusal(twin.forth), Nothing)
 
     def test_the_order_is_the_same(self):
@@ -282,18 +285,21 @@ class StepByStep(unittest.TestCase):
         choice = source.choice(("keep", "keep", "drop", "hear", "hear", "hear", "back", "back", "forth"))
         if choice == "keep":
             book = source.choice(MANY_BOOKS)
-            self.assertIs(ledger.keep(title, book), slow.step({**books, title: book}, title in books))
+            self.assertIs(ledger.keep(title, book), title in books)
+            slow.step({**books, title: book}, choice)
         elif choice in ("drop", "hear") and title not in books:
             things = [title] if choice == "drop" else [title, name]
             self.assertIs(refusal(getattr(ledger, choice), *things), Nothing)
         elif choice == "drop":
             rest = {other: book for other, book in books.items() if other != title}
-            self.assertEqual(ledger.drop(title), slow.step(rest, books[title]))
+            self.assertEqual(ledger.drop(title), books[title])
+            slow.step(rest, choice)
         elif choice == "hear" and len(books[title]) == 8:
             self.assertIs(refusal(ledger.hear, title, name), NoBook)
         elif choice == "hear":
             longer = books[title] + (name,)
-            self.assertEqual(ledger.hear(title, name), slow.step({**books, title: longer}, len(longer)))
+            self.assertEqual(ledger.hear(title, name), len(longer))
+            slow.step({**books, title: longer}, choice)
         elif slow.many()[0 if choice == "back" else 1] == 0:
             self.assertIs(refusal(getattr(ledger, choice)), Nothing)
         else:

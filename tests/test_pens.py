@@ -180,12 +180,13 @@ class Written(unittest.TestCase):
 class BackAndForth(unittest.TestCase):
     def test_each_step_and_its_word(self):
         pen = Pen(ANNAS, 1)
-        words, seen = [], [all_of(pen)[:4]]
+        words = ["add", "add", "rub", "add", "finish", "finish", "rub", "rub", "finish"]
+        told, seen = [], [all_of(pen)[:4]]
         for step in (lambda: pen.add("a"), lambda: pen.add("n"), pen.rub, lambda: pen.add("n"), pen.finish, pen.finish,
                      pen.rub, pen.rub, pen.finish):
-            words.append(step())
+            told.append(step())
             seen.append(all_of(pen)[:4])
-        self.assertEqual(words, [None, None, "n", None, "an", "an", "n", "a", "a"])
+        self.assertEqual(told, [None, None, "n", None, "an", "an", "n", "a", "a"])
         for time in range(2):
             for place in range(len(words) - 1, -1, -1):
                 self.assertEqual(pen.many(), (place + 1, len(words) - 1 - place))
@@ -200,16 +201,37 @@ class BackAndForth(unittest.TestCase):
             self.assertIs(refusal(pen.forth), Nothing)
             self.assertEqual(pen.many(), (len(words), 0))
 
+    def test_the_word_is_not_what_the_step_told(self):
+        pen = Pen(("z", "bba"), 2)
+        self.assertIsNone(pen.add("b"))
+        self.assertEqual([pen.back(), pen.forth()], ["add", "add"])
+        self.assertEqual(pen.rub(), "b")
+        self.assertEqual(pen.back(), "rub")
+        self.assertEqual(pen.finish(), "bba")
+        self.assertEqual(pen.back(), "finish")
+        self.assertEqual((pen.text(), pen.many()), ("b", (1, 1)))
+
+    def test_the_likeliest_of_like_ones_behind_a_rub(self):
+        # Both names have the share (1, 2) by order 2, so the first in the alphabet is the likeliest.
+        pen = written(("z", "bba"), 2, "b")
+        self.assertEqual(pen.rub(), "b")
+        self.assertEqual([pen.finish(), pen.finish()], ["bba", "bba"])
+        for one in (pen.twin(), pen):
+            self.assertEqual([one.back() for time in range(4)], ["finish", "finish", "rub", "add"])
+            self.assertEqual((one.text(), one.many()), ("", (0, 4)))
+            self.assertEqual([one.forth() for time in range(4)], ["add", "rub", "finish", "finish"])
+            self.assertEqual((one.text(), one.many()), ("bba", (4, 0)))
+
     def test_a_step_that_changed_nothing(self):
         pen = written(("a",), 1, "a")
         self.assertEqual(pen.finish(), "a")
         self.assertEqual(pen.many(), (2, 0))
-        self.assertEqual(pen.back(), "a")
+        self.assertEqual(pen.back(), "finish")
         self.assertEqual((pen.text(), pen.many()), ("a", (1, 1)))
-        self.assertIsNone(pen.back())
+        self.assertEqual(pen.back(), "add")
         self.assertEqual((pen.text(), pen.many()), ("", (0, 2)))
-        self.assertIsNone(pen.forth())
-        self.assertEqual(pen.forth(), "a")
+        self.assertEqual(pen.forth(), "add")
+        self.assertEqual(pen.forth(), "finish")
         self.assertEqual((pen.text(), pen.many()), ("a", (2, 0)))
 
     def test_nothing_at_first(self):
@@ -241,8 +263,7 @@ class BackAndForth(unittest.TestCase):
         for method, things, wanted in ((pen.add, ["x"], NoName), (pen.rub, [], Nothing), (pen.back, [], Nothing)):
             self.assertIs(refusal(method, *things), wanted)
             self.assertEqual(all_of(pen), ("", ["a"], False, (1, 1), (0, 2)))
-        self.assertIsNone(pen.forth())
-        self.assertIsNone(pen.forth())
+        self.assertEqual([pen.forth(), pen.forth()], ["add", "add"])
         self.assertEqual(pen.text(), "an")
 
     def test_asking_is_no_step(self):
@@ -265,10 +286,10 @@ class Twins(unittest.TestCase):
         self.assertIsInstance(twin, Pen)
         self.assertEqual(all_of(twin), all_of(pen))
         self.assertEqual(twin.many(), (2, 2))
-        self.assertEqual([twin.forth(), twin.forth()], [None, "ann"])
+        self.assertEqual([twin.forth(), twin.forth()], ["add", "finish"])
         self.assertEqual(twin.text(), "ann")
         self.assertEqual(all_of(pen), ("an", ["a", "n"], True, (2, 3), (2, 2)))
-        self.assertEqual([twin.back() for time in range(4)], ["ann", None, None, None])
+        self.assertEqual([twin.back() for time in range(4)], ["finish", "add", "add", "add"])
         self.assertEqual(pen.many(), (2, 2))
 
     def test_each_goes_by_itself(self):
@@ -284,7 +305,7 @@ class Twins(unittest.TestCase):
         twin.back()
         twin.rub()
         self.assertEqual((pen.text(), pen.many()), ("an", (2, 1)))
-        self.assertIsNone(pen.forth())
+        self.assertEqual(pen.forth(), "add")
         self.assertEqual(pen.text(), "ana")
         self.assertIs(refusal(twin.forth), Nothing)
 
@@ -321,17 +342,20 @@ class StepByStep(unittest.TestCase):
         if choice == "add":
             letter = source.choice(slow_letters(book, order, text) + ["x", ""])
             if letter in slow_letters(book, order, text):
-                self.assertEqual(pen.add(letter), slow.step(text + letter, None))
+                self.assertIsNone(pen.add(letter))
+                slow.step(text + letter, choice)
             else:
                 self.assertIs(refusal(pen.add, letter), NoName)
         elif choice == "rub" and text == "":
             self.assertIs(refusal(pen.rub), Nothing)
         elif choice == "rub":
-            self.assertEqual(pen.rub(), slow.step(text[:-1], text[-1]))
+            self.assertEqual(pen.rub(), text[-1])
+            slow.step(text[:-1], choice)
         elif choice == "finish":
             names = slow_begun(book, order, text)
             first = min(names, key=lambda name: (-names[name], name))
-            self.assertEqual(pen.finish(), slow.step(first, first))
+            self.assertEqual(pen.finish(), first)
+            slow.step(first, choice)
         else:
             self.back_or_forth(pen, slow, choice)
 
